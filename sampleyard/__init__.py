@@ -1,0 +1,1 @@
+"""Sampleyard: pictures made of triangles, exactly."""

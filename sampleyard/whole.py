@@ -1,0 +1,18 @@
+"""Whole numbers: what is one [0.2], and what divides several of them."""
+
+
+def is_whole(thing):
+    # Python counts True and False among the ints; the document doesn't.
+    return isinstance(thing, int) and not isinstance(thing, bool)
+
+
+def greatest_divisor(numbers):
+    # Begun at 0, which every number divides, so the first number that isn't 0 is taken as it is.
+    found = 0
+    for number in numbers:
+        rest = abs(number)
+        while rest != 0:
+            left = found % rest
+            found = rest
+            rest = left
+    return found
