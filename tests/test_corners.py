@@ -250,6 +250,14 @@ class Mixed(unittest.TestCase):
             by_hand = (by_hand[1], mixed_by_hand(by_hand[0], by_hand[1], step, MOST - step))
         self.assertEqual((one, other), by_hand)
 
+    def test_told_is_new_each_time(self):
+        corner = (3, 5, 7, 2, (1, 4))
+        first = mixed(corner, corner, 1, 0)
+        second = mixed(corner, corner, 1, 0)
+        self.assertEqual([first, second], [corner, corner])
+        self.assertIsNot(first, corner)
+        self.assertIsNot(first, second)
+
     def test_stands_on_the_straight_line(self):
         for one, other in PAIRS:
             told = mixed(one, other, 2, 7)

@@ -177,6 +177,20 @@ class Mean(Case):
         self.assertEqual(told, (1, 1))
 
 
+class ToldNew(unittest.TestCase):
+    def test_told_is_new_each_time(self):
+        one = (5, 7)
+        for make in (
+            lambda: ratio(5, 7), lambda: plus(one, (0, 1)), lambda: minus(one, (0, 1)), lambda: product(one, (1, 1)),
+            lambda: mean_of([one]),
+        ):
+            first = make()
+            second = make()
+            self.assertEqual([first, second], [one, one])
+            self.assertIsNot(first, one)
+            self.assertIsNot(first, second)
+
+
 class Interface(unittest.TestCase):
     def test_names_and_arguments(self):
         for name, arguments in (
