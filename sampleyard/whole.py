@@ -1,4 +1,4 @@
-"""Whole numbers: what is one [0.2], and what divides several of them."""
+"""Whole numbers: what is one [0.2], what divides several of them, and what they come to."""
 
 
 def is_whole(thing):
@@ -16,3 +16,8 @@ def greatest_divisor(numbers):
             found = rest
             rest = left
     return found
+
+
+def summed_products(three, other):
+    # Written out: every side of every edge at every point comes down to this sum.
+    return three[0] * other[0] + three[1] * other[1] + three[2] * other[2]

@@ -1,9 +1,9 @@
-"""[0.2] A whole number is an int that is no truth."""
+"""[0.2] A whole number is an int that is no truth; what several of them are divided by and come to."""
 
 import math
 import unittest
 
-from sampleyard.whole import greatest_divisor, is_whole
+from sampleyard.whole import greatest_divisor, is_whole, summed_products
 
 
 class Whole(unittest.TestCase):
@@ -29,6 +29,16 @@ class GreatestDivisor(unittest.TestCase):
             before = list(numbers)
             self.assertEqual(greatest_divisor(numbers), math.gcd(*numbers))
             self.assertEqual(numbers, before)
+
+
+class SummedProducts(unittest.TestCase):
+    def test_of_threes(self):
+        for three, other, expected in (
+            ((1, 2, 3), (4, 5, 6), 32), ([0, 0, 7], (9, 9, -2), -14), ((1, 0, 0), (5, 6, 7), 5),
+            ((0, 1, 0), (5, 6, 7), 6), ((10 ** 30, -1, 2), (10 ** 30, 3, 4), 10 ** 60 + 5),
+        ):
+            self.assertEqual(summed_products(three, other), expected)
+            self.assertEqual(summed_products(other, three), expected)
 
 
 if __name__ == "__main__":
