@@ -1,6 +1,6 @@
 """Fractions: tuples (top, bottom) in lowest terms, the bottom from 1 on [1.1]."""
 
-from sampleyard.whole import greatest_divisor
+from sampleyard.whole import greatest_divisor, is_whole
 
 
 def ratio(top, bottom):
@@ -37,3 +37,11 @@ def under(one, other):
 
 def down(one):
     return one[0] // one[1]
+
+
+def is_fraction(thing):
+    if not isinstance(thing, tuple) or len(thing) != 2:
+        return False
+    if not is_whole(thing[0]) or not is_whole(thing[1]):
+        return False
+    return thing[1] >= 1 and greatest_divisor(thing) == 1

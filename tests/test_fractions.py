@@ -6,7 +6,7 @@ import unittest
 from fractions import Fraction
 
 from sampleyard import fractions as module
-from sampleyard.fractions import down, mean_of, minus, plus, product, ratio, under
+from sampleyard.fractions import down, is_fraction, mean_of, minus, plus, product, ratio, under
 
 SMALL = list(range(-13, 14))
 GREAT = [10 ** 20, -(10 ** 20) - 39, 2 ** 70 * 3 ** 5, -(6 ** 30), 12345678901234567890123456789, 10 ** 40 + 1]
@@ -175,6 +175,30 @@ class Mean(Case):
         told = mean_of(some)
         some.append((100, 1))
         self.assertEqual(told, (1, 1))
+
+
+class IsFraction(unittest.TestCase):
+    def test_fractions(self):
+        for one in FRACTIONS:
+            self.assertIs(is_fraction(one), True)
+
+    def test_what_is_told_is_one(self):
+        for top in SMALL + GREAT:
+            for bottom in (1, -1, 6, -35, 10 ** 30):
+                self.assertIs(is_fraction(ratio(top, bottom)), True)
+
+    def test_lowest_terms_alone(self):
+        for top in SMALL:
+            for bottom in SMALL:
+                expected = bottom >= 1 and math.gcd(top, bottom) == 1
+                self.assertIs(is_fraction((top, bottom)), expected, (top, bottom))
+
+    def test_others(self):
+        for thing in (
+            None, 0, 1, True, "12", 0.5, [1, 2], {}, (), (1,), (1, 2, 3), ((1, 2), 1), (1, (1, 2)), (True, 1),
+            (False, 1), (1, True), (0, True), (1.0, 2), (1, 2.0), ("1", 2), (1, "2"), (None, 1), (1, None),
+        ):
+            self.assertIs(is_fraction(thing), False, thing)
 
 
 class ToldNew(unittest.TestCase):

@@ -28,6 +28,8 @@ NO_WORDS = """type typing typing_extensions enum Enum IntEnum StrEnum Flag IntFl
 namedtuple NamedTuple TypedDict TYPE_CHECKING abstractmethod""".split()
 NO_PARTS = ["dataclass", "overload", "contextmanager"]
 NO_FILES = ["test", "tests", "testing", "site", "conftest", "sitecustomize", "usercustomize"] + NO_WORDS
+NO_VALUES = """items keys values pop update append clear extend insert remove reverse setdefault sort args encode
+format""".split()
 NODES = (
     ast.Module, ast.ImportFrom, ast.alias, ast.FunctionDef, ast.arguments, ast.arg, ast.ClassDef, ast.Lambda,
     ast.Assign, ast.AugAssign, ast.If, ast.While, ast.For, ast.Return, ast.Break, ast.Continue, ast.Pass, ast.Raise,
@@ -168,17 +170,49 @@ def node_findings(node, own_names):
     return found
 
 
+def methods_of(tree):
+    classes = [node for node in ast.walk(tree) if isinstance(node, ast.ClassDef)]
+    return [part for node in classes for part in node.body if isinstance(part, ast.FunctionDef)]
+
+
+def values_of(tree):
+    """the names of the values that objects are given"""
+    given = [node for node in ast.walk(tree) if isinstance(node, ast.Attribute) and isinstance(node.ctx, ast.Store)]
+    return [node.attr for node in given]
+
+
 def own_names_of(tree):
     """what the package itself calls so: its methods, and the values it gives its objects"""
-    names = [node.name for node in ast.walk(tree) if isinstance(node, ast.FunctionDef)]
-    return names + [
-        node.attr for node in ast.walk(tree) if isinstance(node, ast.Attribute) and isinstance(node.ctx, ast.Store)
-    ]
+    return [method.name for method in methods_of(tree)] + values_of(tree)
+
+
+def object_findings(tree):
+    found = [f"L26 value {name}" for name in values_of(tree) if name in NO_VALUES]
+    for method in methods_of(tree):
+        returns = [node for node in ast.walk(method) if isinstance(node, ast.Return)]
+        if method.name == "__init__" and any([node.value is not None for node in returns]):
+            found.append(f"L28 __init__ in row {method.lineno}")
+    return found
+
+
+def local_findings(tree):
+    """parameters and locals that are called like a class or an import of their file"""
+    taken = [node.name for node in tree.body if isinstance(node, ast.ClassDef)]
+    for node in tree.body:
+        if isinstance(node, ast.ImportFrom):
+            taken += [alias.asname or alias.name for alias in node.names]
+    found = []
+    for node in ast.walk(tree):
+        if isinstance(node, ast.arg) and node.arg in taken:
+            found.append(f"L15 parameter {node.arg}")
+        if isinstance(node, ast.Name) and isinstance(node.ctx, ast.Store) and node.id in taken:
+            found.append(f"L15 local {node.id}")
+    return found
 
 
 def findings(text, own_names):
     tree = ast.parse(text)
-    found = text_findings(text) + top_findings(tree)
+    found = text_findings(text) + top_findings(tree) + object_findings(tree) + local_findings(tree)
     for node in ast.walk(tree):
         found += node_findings(node, own_names)
     return found
@@ -209,6 +243,12 @@ class Package(unittest.TestCase):
             own_names += own_names_of(ast.parse(text))
         for path, text in zip(package_files(), texts):
             self.assertEqual(findings(text, own_names), [], path.name)
+
+    def test_no_name_is_a_method_and_a_value(self):
+        trees = [ast.parse(path.read_text(encoding="utf-8")) for path in package_files()]
+        methods = [method.name for tree in trees for method in methods_of(tree)]
+        values = [name for tree in trees for name in values_of(tree)]
+        self.assertEqual(sorted(set(methods) & set(values)), [], "L18")
 
     def test_drawn_from_the_very_file(self):
         for path in package_files():
@@ -249,10 +289,13 @@ class Checker(unittest.TestCase):
             ("L7", "def f(a):\n    return a / 2\n"), ("L7", "A = 1.5\n"), ("L8", "def f(a):\n    return pow(a, 2)\n"),
             ("L10", "# " + "a" * 120 + "\n"), ("L10", "def f():\n" + "    pass\n" * 40), ("L12", "_a = 1\n"),
             ("L14", "# \u00e4\n"), ("L14", "# \t\n"), ("L15", "def f(id):\n    pass\n"), ("L15", "A = 1\nA = 2\n"),
+            ("L15", "class C:\n    pass\n\n\ndef f(C):\n    pass\n"),
+            ("L15", "from sampleyard.fractions import down\n\n\ndef f():\n    down = 1\n"),
             ("L17", "# its type\n"), ("L17", "def f(a):\n    return chr(a)\n"), ("L19", "def f():\n    try:\n"
              "        pass\n    except Exception:\n        pass\n"), ("L20", "def f(a, b):\n    return a is b\n"),
             ("L21", "def f(a: int):\n    pass\n"), ("L25", "def f(a):\n    a.sort()\n"),
-            ("L27", "def f(n):\n    return 2 ** n\n"), ("L27", "A = '5 %'\n"),
+            ("L26", "def f(a):\n    a.items = 1\n"), ("L27", "def f(n):\n    return 2 ** n\n"),
+            ("L27", "A = '5 %'\n"), ("L28", "class C:\n    def __init__(self):\n        return None\n"),
         ):
             found = findings(text, [])
             self.assertTrue([row for row in found if row.startswith(rule + " ")], f"{rule}: {text!r}: {found}")
