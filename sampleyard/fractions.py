@@ -35,6 +35,22 @@ def under(one, other):
     return one[0] * other[1] < other[0] * one[1]
 
 
+def least_of(some):
+    least = some[0]
+    for fraction in some:
+        if under(fraction, least):
+            least = fraction
+    return least
+
+
+def greatest_of(some):
+    greatest = some[0]
+    for fraction in some:
+        if under(greatest, fraction):
+            greatest = fraction
+    return greatest
+
+
 def down(one):
     return one[0] // one[1]
 

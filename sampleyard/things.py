@@ -1,4 +1,4 @@
-"""Things: triangles with what is seen of them, of four kinds [6.1]."""
+"""Things: triangles with what is seen of them, of four kinds [6.1]; each makes others like it of other triangles."""
 
 from sampleyard.corners import check_triangle
 from sampleyard.edges import check_before_eye
@@ -29,6 +29,9 @@ class Plain(Thing):
     def colour_at(self, values):
         return self.colour
 
+    def like(self, triangle):
+        return Plain(triangle, self.colour)
+
 
 class Shaded(Thing):
     def __init__(self, triangle):
@@ -40,6 +43,9 @@ class Shaded(Thing):
 
     def colour_at(self, values):
         return values[0]
+
+    def like(self, triangle):
+        return Shaded(triangle)
 
 
 class Patterned(Thing):
@@ -55,6 +61,9 @@ class Patterned(Thing):
 
     def colour_at(self, values):
         return entry_at(self.pattern, values[0], values[1])
+
+    def like(self, triangle):
+        return Patterned(triangle, self.pattern)
 
 
 class Glass(Thing):
@@ -73,6 +82,9 @@ class Glass(Thing):
 
     def colour_at(self, values):
         return self.colour
+
+    def like(self, triangle):
+        return Glass(triangle, self.colour, self.part)
 
 
 def check_values(triangle, least):

@@ -1,9 +1,13 @@
-"""Whole numbers: what is one [0.2], what divides several of them, and what they come to."""
+"""Whole numbers: what is one [0.2], also between two others, what divides several, and what they come to."""
 
 
 def is_whole(thing):
     # Python counts True and False among the ints; the document doesn't.
     return isinstance(thing, int) and not isinstance(thing, bool)
+
+
+def is_between(thing, least, most):
+    return is_whole(thing) and thing >= least and thing <= most
 
 
 def greatest_divisor(numbers):

@@ -6,7 +6,9 @@ import unittest
 from fractions import Fraction
 
 from sampleyard import fractions as module
-from sampleyard.fractions import down, is_fraction, mean_of, minus, plus, product, ratio, under
+from sampleyard.fractions import (
+    down, greatest_of, is_fraction, least_of, mean_of, minus, plus, product, ratio, under,
+)
 
 SMALL = list(range(-13, 14))
 GREAT = [10 ** 20, -(10 ** 20) - 39, 2 ** 70 * 3 ** 5, -(6 ** 30), 12345678901234567890123456789, 10 ** 40 + 1]
@@ -175,6 +177,22 @@ class Mean(Case):
         told = mean_of(some)
         some.append((100, 1))
         self.assertEqual(told, (1, 1))
+
+
+class LeastAndGreatest(unittest.TestCase):
+    def test_of_every_count_and_order(self):
+        for count in range(1, len(FRACTIONS) + 1):
+            for turn in range(count):
+                some = FRACTIONS[:count][turn:] + FRACTIONS[:count][:turn]
+                before = list(some)
+                exact = sorted([Fraction(*one) for one in some])
+                self.assertEqual(Fraction(*least_of(some)), exact[0])
+                self.assertEqual(Fraction(*greatest_of(some)), exact[-1])
+                self.assertEqual(some, before)
+
+    def test_of_alike_ones(self):
+        for some in ([(1, 2)], [(1, 2), (1, 2)], [(-3, 1)] * 5):
+            self.assertEqual([least_of(some), greatest_of(some)], [some[0], some[0]])
 
 
 class IsFraction(unittest.TestCase):

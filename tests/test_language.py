@@ -30,6 +30,8 @@ NO_PARTS = ["dataclass", "overload", "contextmanager"]
 NO_FILES = ["test", "tests", "testing", "site", "conftest", "sitecustomize", "usercustomize"] + NO_WORDS
 NO_VALUES = """items keys values pop update append clear extend insert remove reverse setdefault sort args encode
 format""".split()
+WALKED = ["zip", "enumerate", "reversed", "range", "items", "keys", "values"]
+WALKERS = "list tuple dict sorted sum any all enumerate zip min max join".split()
 NODES = (
     ast.Module, ast.ImportFrom, ast.alias, ast.FunctionDef, ast.arguments, ast.arg, ast.ClassDef, ast.Lambda,
     ast.Assign, ast.AugAssign, ast.If, ast.While, ast.For, ast.Return, ast.Break, ast.Continue, ast.Pass, ast.Raise,
@@ -210,9 +212,51 @@ def local_findings(tree):
     return found
 
 
+def called(node):
+    """the name that is called, of a function or a method; else nothing"""
+    if not isinstance(node, ast.Call):
+        return ""
+    return node.func.id if isinstance(node.func, ast.Name) else getattr(node.func, "attr", "")
+
+
+def walked_findings(tree):
+    """what is to be walked on the spot and is kept, and sets that are kept or walked"""
+    found = []
+    for parent in ast.walk(tree):
+        for child in ast.iter_child_nodes(parent):
+            is_walked = isinstance(parent, (ast.For, ast.comprehension)) and child is parent.iter
+            if called(child) in WALKED and not is_walked and called(parent) not in WALKERS:
+                found.append(f"L23 row {child.lineno}")
+            if called(child) in ("set", "frozenset") or isinstance(child, ast.Set):
+                if not isinstance(parent, (ast.Compare, ast.BinOp)) and called(parent) not in ("sorted", "len"):
+                    found.append(f"L24 row {child.lineno}")
+    return found
+
+
+def class_value_findings(tree):
+    """classes of the file, or drawn from another one, that stand where a value does"""
+    names = [node.name for node in tree.body if isinstance(node, ast.ClassDef)]
+    for node in tree.body:
+        if isinstance(node, ast.ImportFrom):
+            names += [alias.name for alias in node.names if alias.name[0].isupper() and not alias.name.isupper()]
+    allowed = []
+    for node in ast.walk(tree):
+        if isinstance(node, ast.Call):
+            allowed += [node.func] + (node.args[1:] if called(node) == "isinstance" else [])
+        elif isinstance(node, ast.ClassDef):
+            allowed += node.bases
+        elif isinstance(node, ast.ExceptHandler):
+            allowed += node.type.elts if isinstance(node.type, ast.Tuple) else [node.type]
+        elif isinstance(node, ast.Attribute):
+            allowed.append(node.value)
+    uses = [node for node in ast.walk(tree) if isinstance(node, ast.Name) and node.id in names]
+    return [f"L18 {node.id} in row {node.lineno}" for node in uses if not any([node is other for other in allowed])]
+
+
 def findings(text, own_names):
     tree = ast.parse(text)
     found = text_findings(text) + top_findings(tree) + object_findings(tree) + local_findings(tree)
+    found += walked_findings(tree) + class_value_findings(tree)
     for node in ast.walk(tree):
         found += node_findings(node, own_names)
     return found
@@ -294,7 +338,11 @@ class Checker(unittest.TestCase):
             ("L17", "# its type\n"), ("L17", "def f(a):\n    return chr(a)\n"), ("L19", "def f():\n    try:\n"
              "        pass\n    except Exception:\n        pass\n"), ("L20", "def f(a, b):\n    return a is b\n"),
             ("L21", "def f(a: int):\n    pass\n"), ("L25", "def f(a):\n    a.sort()\n"),
-            ("L26", "def f(a):\n    a.items = 1\n"), ("L27", "def f(n):\n    return 2 ** n\n"),
+            ("L18", "class C:\n    pass\n\n\nA = [C]\n"), ("L23", "def f(a):\n    b = zip(a, a)\n    return b\n"),
+            ("L18", "from sampleyard.errors import NoRow\n\n\ndef f():\n    return NoRow\n"),
+            ("L23", "def f(a):\n    return reversed(a)\n"), ("L24", "def f(a):\n    b = set(a)\n    return b\n"),
+            ("L24", "def f(a):\n    return [b for b in set(a)]\n"), ("L26", "def f(a):\n    a.items = 1\n"),
+            ("L27", "def f(n):\n    return 2 ** n\n"),
             ("L27", "A = '5 %'\n"), ("L28", "class C:\n    def __init__(self):\n        return None\n"),
         ):
             found = findings(text, [])

@@ -287,6 +287,24 @@ class WrongPatterns(Case):
             self.assertRefused(BadPattern, Patterned, triangle_of(2), pattern)
 
 
+class Like(unittest.TestCase):
+    """things like one, of another triangle"""
+
+    def test_kind_and_fields(self):
+        other = triangle_of(3, 5)
+        for thing in one_of_each():
+            made = thing.like(other)
+            self.assertIs(type(made), type(thing))
+            self.assertEqual(vars(made), {**vars(thing), "triangle": other})
+            self.assertEqual(thing.triangle, triangle_of(3))
+
+    def test_each_has_its_own_pattern(self):
+        thing = Patterned(triangle_of(2), PATTERN)
+        made = thing.like(triangle_of(3))
+        self.assertEqual(made.pattern, PATTERN)
+        self.assertEqual(len({id(each) for each in [made.pattern, thing.pattern] + made.pattern + thing.pattern}), 6)
+
+
 class HandedIn(unittest.TestCase):
     def test_pattern_stays_as_it_was(self):
         pattern = copy.deepcopy(PATTERN)

@@ -3,7 +3,7 @@
 import math
 import unittest
 
-from sampleyard.whole import greatest_divisor, is_whole, summed_products
+from sampleyard.whole import greatest_divisor, is_between, is_whole, summed_products
 
 
 class Whole(unittest.TestCase):
@@ -18,6 +18,18 @@ class Whole(unittest.TestCase):
     def test_other_things_are_none(self):
         for thing in (None, "1", 1.0, (1,), [1], {}):
             self.assertIs(is_whole(thing), False)
+
+
+class Between(unittest.TestCase):
+    def test_both_ends_count(self):
+        for number in range(-5, 6):
+            self.assertIs(is_between(number, -2, 3), number in (-2, -1, 0, 1, 2, 3))
+            self.assertIs(is_between(number, 2, 2), number == 2)
+            self.assertIs(is_between(number, 0, -1), False)
+
+    def test_whole_numbers_alone(self):
+        for thing in (True, False, None, "1", 1.0, (1,), [1]):
+            self.assertIs(is_between(thing, 0, 9), False)
 
 
 class GreatestDivisor(unittest.TestCase):
